@@ -1,0 +1,1 @@
+"""Deeprests: rests by ever higher powers of a prime."""

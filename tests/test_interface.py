@@ -1,0 +1,38 @@
+import importlib
+import inspect
+import unittest
+
+INTERFACE = {
+    "deeprests.primes": {
+        "is_prime": ["thing"],
+        "depth_of": ["p", "x"],
+        "unit_of": ["p", "x"],
+        "power_of": ["p", "e"],
+        "inverse_of": ["p", "e", "x"],
+    },
+    "deeprests.balls": {
+        "ball_of": ["p", "x", "e"],
+        "has": ["p", "one", "x"],
+        "lies_within": ["p", "one", "other"],
+        "least_ball": ["p", "numbers"],
+        "common_ball": ["p", "one", "other"],
+        "ball_sum": ["p", "one", "other"],
+        "ball_difference": ["p", "one", "other"],
+        "ball_product": ["p", "one", "other"],
+        "ball_inverse": ["p", "one"],
+        "ball_quotient": ["p", "one", "other"],
+    },
+}
+
+
+class Interface(unittest.TestCase):
+    def test_names_and_arguments_stand_as_told(self):
+        for module, functions in INTERFACE.items():
+            for name, arguments in functions.items():
+                with self.subTest(module=module, name=name):
+                    function = getattr(importlib.import_module(module), name)
+                    self.assertEqual(list(inspect.signature(function).parameters), arguments)
+
+
+if __name__ == "__main__":
+    unittest.main()
