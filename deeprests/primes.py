@@ -49,7 +49,9 @@ def inverse_of(p, e, x):
         raise NoInverse("the prime divides the number")
     power = power_of(p, e)
     y = inverse_by_prime(p, x)
-    # With x y = 1 + d the next y gives 1 - d d, so the depth doubles each time.
-    while (x * y - 1) % power != 0:
+    reached = 1
+    # With x y = 1 + d the next y gives 1 - d d, so the depth reached doubles each time.
+    while reached < e:
         y = y * (2 - x * y) % power
+        reached = reached * 2
     return y
