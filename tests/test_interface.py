@@ -22,6 +22,26 @@ INTERFACE = {
         "ball_inverse": ["p", "one"],
         "ball_quotient": ["p", "one", "other"],
     },
+    "deeprests.polynomials": {
+        "worth_at": ["f", "x"],
+        "degree_of": ["f"],
+        "poly_product": ["f", "g"],
+        "slope_of": ["f"],
+        "seen_from": ["p", "f", "a", "e"],
+        "content_of": ["p", "f"],
+    },
+    "deeprests.solving": {
+        "solving_balls": ["p", "f", "N"],
+        "solving_rests": ["p", "f", "N"],
+    },
+    "deeprests.roots": {
+        "single_depth": ["p", "f", "a"],
+        "root_of": ["p", "f", "a", "N"],
+        "endless_roots": ["p", "f", "N"],
+    },
+    "deeprests.fractions": {
+        "small_fraction": ["p", "one", "m"],
+    },
 }
 
 

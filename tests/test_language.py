@@ -14,6 +14,12 @@ ord repr any all divmod Exception ValueError TypeError KeyError IndexError Looku
 ArithmeticError OverflowError RuntimeError NotImplementedError AttributeError StopIteration
 """.split())
 
+METHODS = set("""
+append clear copy count endswith extend find get index insert isalnum isalpha isdigit islower isspace isupper items
+join keys ljust lower lstrip partition pop remove replace reverse rfind rjust rpartition rsplit rstrip setdefault
+split splitlines startswith strip update upper values zfill bit_length
+""".split())
+
 DUNDERS = {"__init__", "__eq__", "__repr__", "__str__", "__len__", "__all__", "__version__"}
 
 WORDS = re.compile(
@@ -98,6 +104,30 @@ class Language(unittest.TestCase):
                     self.assertEqual(node.level, 0)
                     self.assertTrue(node.module.startswith("deeprests."))
                     self.assertNotIn("*", [alias.name for alias in node.names])
+
+    def test_locals_are_not_called_like_imports_and_classes(self):
+        for path in sources():
+            nodes = list(ast.walk(ast.parse(path.read_text(encoding="utf-8"))))
+            taken = [name for node in nodes if isinstance(node, (ast.alias, ast.ClassDef)) for name in bound_names(node)]
+            bound = [name for node in nodes if isinstance(node, (ast.Name, ast.arg)) for name in bound_names(node)]
+            with self.subTest(path.name):
+                self.assertEqual(len(set(taken)), len(taken))
+                self.assertEqual(set(taken) & set(bound), set())
+
+    def test_methods_of_pythons_own(self):
+        own = {node.name for place, node in self.each_node() if isinstance(node, ast.FunctionDef)}
+        for place, node in self.each_node():
+            if isinstance(node, ast.Call) and isinstance(node.func, ast.Attribute):
+                with self.subTest(place):
+                    self.assertIn(node.func.attr, METHODS | own)
+
+    def test_is_stands_beside_none_and_truths(self):
+        for place, node in self.each_node():
+            if isinstance(node, ast.Compare) and any(isinstance(op, (ast.Is, ast.IsNot)) for op in node.ops):
+                with self.subTest(place):
+                    self.assertEqual(len(node.ops), 1)
+                    self.assertIsInstance(node.comparators[0], ast.Constant)
+                    self.assertIn(node.comparators[0].value, (None, True, False))
 
     def test_names(self):
         for place, node in self.each_node():
