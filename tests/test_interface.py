@@ -42,6 +42,21 @@ INTERFACE = {
     "deeprests.fractions": {
         "small_fraction": ["p", "one", "m"],
     },
+    "deeprests.borders": {
+        "border_of": ["p", "f"],
+        "borders_joined": ["one", "other"],
+    },
+    "deeprests.parts": {
+        "parts_at": ["p", "N", "f", "g", "h"],
+    },
+    "deeprests.texts": {
+        "read_number": ["text"],
+        "read_poly": ["text"],
+        "show_poly": ["f"],
+    },
+    "deeprests.desk": {
+        "Desk": ["p"],
+    },
 }
 
 
@@ -52,6 +67,11 @@ class Interface(unittest.TestCase):
                 with self.subTest(module=module, name=name):
                     function = getattr(importlib.import_module(module), name)
                     self.assertEqual(list(inspect.signature(function).parameters), arguments)
+
+    def test_the_desk_is_a_class_that_is_told_rows(self):
+        desk = importlib.import_module("deeprests.desk").Desk
+        self.assertIsInstance(desk, type)
+        self.assertEqual(list(inspect.signature(desk(2).say).parameters), ["row"])
 
 
 if __name__ == "__main__":

@@ -134,7 +134,7 @@ class Language(unittest.TestCase):
             with self.subTest(place):
                 for name in bound_names(node):
                     self.assertTrue(name in DUNDERS or not name.startswith("_"), name)
-                    self.assertFalse(hasattr(builtins, name), name)
+                    self.assertTrue(name in DUNDERS or not hasattr(builtins, name), name)
                 if isinstance(node, ast.Name) and hasattr(builtins, node.id):
                     self.assertIn(node.id, BUILTINS)
 
